@@ -1,0 +1,1 @@
+"""Swornrun: programs that keep their promises."""

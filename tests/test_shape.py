@@ -1,0 +1,77 @@
+import ast
+import inspect
+import pathlib
+import unittest
+
+from swornrun import errors, program, terms, words
+
+FOLDER = pathlib.Path(words.__file__).parent
+FILES = sorted(FOLDER.glob("*.py"))
+INTERFACE = {
+    words.split_row: ["text"],
+    words.is_name: ["word"],
+    words.is_number: ["word"],
+    terms.read_term: ["text"],
+    terms.read_condition: ["text"],
+    terms.read_promise: ["text"],
+    terms.write_term: ["term"],
+    terms.write_condition: ["condition"],
+    terms.write_promise: ["promise"],
+    program.Procedure: ["row", "name", "parameters", "needs", "gives", "moves", "falls", "lets", "body"],
+    program.Procedure.same: ["self", "other"],
+    program.Program: ["procedures"],
+    program.Program.same: ["self", "other"],
+    program.Program.called: ["self", "name"],
+    program.statements_of: ["procedure"],
+    program.changed_lists: ["program", "procedure"],
+    program.changed_in: ["program", "procedure", "block"],
+    errors.BadLine: ["row"],
+    errors.BadText: ["row"],
+    errors.BadProgram: ["row"],
+    errors.BadPaper: ["row"],
+}
+
+
+class ShapeTest(unittest.TestCase):
+    def test_interface(self):
+        for thing, wanted in INTERFACE.items():
+            self.assertEqual(list(inspect.signature(thing).parameters), wanted, thing)
+
+    def test_interface_is_defined_in_its_files(self):
+        for module, names in (
+            (errors, "SwornError BadLine BadText BadProgram BadPaper BadStart NoProcedure"),
+            (words, "split_row is_name is_number"),
+            (terms, "read_term read_condition read_promise write_term write_condition write_promise"),
+            (program, "Procedure Program statements_of changed_lists changed_in"),
+        ):
+            for name in names.split():
+                self.assertEqual(getattr(module, name).__module__, module.__name__)
+        for name in ("number_names", "list_names"):
+            self.assertIsInstance(vars(program.Procedure)[name], property)
+
+    def test_only_plain_files(self):
+        for path in FOLDER.iterdir():
+            self.assertTrue(path.suffix == ".py" or path.name == "__pycache__", path)
+        self.assertIn(FOLDER / "__init__.py", FILES)
+
+    def test_sizes_and_characters(self):
+        for path in FILES:
+            text = path.read_bytes().decode("ascii")
+            self.assertTrue(all(" " <= one <= "~" or one == "\n" for one in text), path)
+            rows = text.split("\n")
+            self.assertLessEqual(len(rows), 400, path)
+            self.assertLessEqual(max(len(row) for row in rows), 120, path)
+            for node in ast.walk(ast.parse(text)):
+                if isinstance(node, ast.FunctionDef):
+                    self.assertLessEqual(node.end_lineno - node.lineno + 1, 40, (path, node.name))
+
+    def test_imports_only_from_the_package(self):
+        for path in FILES:
+            for node in ast.walk(ast.parse(path.read_text())):
+                self.assertNotIsInstance(node, ast.Import, path)
+                if isinstance(node, ast.ImportFrom):
+                    self.assertTrue(node.module.startswith("swornrun."), path)
+
+
+if __name__ == "__main__":
+    unittest.main()
