@@ -61,6 +61,11 @@ def write_promise(promise):
     return _write_all(promise)
 
 
+def write_range(lo, hi):
+    """Return the written form of a range."""
+    return f"from {write_term(lo)} to {write_term(hi)}"
+
+
 def _write_plus(text, plus):
     """Return a text with what is added to it."""
     if plus == 0:
@@ -85,15 +90,10 @@ def _write_below(condition, closed):
     return f"({text})" if condition[0] in closed else text
 
 
-def _write_range(lo, hi):
-    """Return the written form of a range."""
-    return f"from {write_term(lo)} to {write_term(hi)}"
-
-
 def _write_stretch(stretch):
     """Return the written form of a range of a list."""
     which, lo, hi = stretch
-    return f"{_write_list(which)} {_write_range(lo, hi)}"
+    return f"{_write_list(which)} {write_range(lo, hi)}"
 
 
 def _write_all(promise):
@@ -104,7 +104,7 @@ def _write_all(promise):
         worth = _write_plus(_write_cell(right, name), promise[6])
     else:
         worth = write_term(right)
-    return f"all {name} {_write_range(lo, hi)}: {_write_cell(which, name)} {sign} {worth}"
+    return f"all {name} {write_range(lo, hi)}: {_write_cell(which, name)} {sign} {worth}"
 
 
 def _free_name(taken):

@@ -21,7 +21,8 @@ PLUS = r"(?:[+-]0)?"
 PLAIN = rf"(?:-?0|n{PLUS}|Ln{PLUS}|R{PLUS})"
 LIST = r"(?:O?n)"
 CELL = rf"(?:{LIST}\[{PLAIN}\]{PLUS})"
-TERM = rf"(?:{PLAIN}|{CELL})"
+# A cell comes first: finditer takes what it finds first, and a name alone is a plain term, too.
+TERM = rf"(?:{CELL}|{PLAIN})"
 COMPARISON = rf"(?:{TERM}~{TERM})"
 STRETCH = rf"(?:{LIST}F{PLAIN}T{PLAIN})"
 PROMISE = (

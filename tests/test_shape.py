@@ -3,7 +3,7 @@ import inspect
 import pathlib
 import unittest
 
-from swornrun import errors, program, terms, words
+from swornrun import checks, errors, program, reader, terms, truths, words, writer
 
 FOLDER = pathlib.Path(words.__file__).parent
 FILES = sorted(FOLDER.glob("*.py"))
@@ -25,6 +25,12 @@ INTERFACE = {
     program.statements_of: ["procedure"],
     program.changed_lists: ["program", "procedure"],
     program.changed_in: ["program", "procedure", "block"],
+    reader.read_program: ["text"],
+    writer.write_program: ["program"],
+    checks.check_program: ["program"],
+    truths.State: ["numbers", "lists", "old"],
+    truths.value_of: ["term", "state"],
+    truths.truth_of: ["promise", "state"],
     errors.BadLine: ["row"],
     errors.BadText: ["row"],
     errors.BadProgram: ["row"],
@@ -43,6 +49,10 @@ class ShapeTest(unittest.TestCase):
             (words, "split_row is_name is_number"),
             (terms, "read_term read_condition read_promise write_term write_condition write_promise"),
             (program, "Procedure Program statements_of changed_lists changed_in"),
+            (reader, "read_program"),
+            (writer, "write_program"),
+            (checks, "check_program"),
+            (truths, "State value_of truth_of"),
         ):
             for name in names.split():
                 self.assertEqual(getattr(module, name).__module__, module.__name__)
