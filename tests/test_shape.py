@@ -3,7 +3,7 @@ import inspect
 import pathlib
 import unittest
 
-from swornrun import checks, errors, program, reader, terms, truths, words, writer
+from swornrun import chains, checks, errors, heights, known, program, reader, running, terms, truths, words, writer
 
 FOLDER = pathlib.Path(words.__file__).parent
 FILES = sorted(FOLDER.glob("*.py"))
@@ -31,6 +31,26 @@ INTERFACE = {
     truths.State: ["numbers", "lists", "old"],
     truths.value_of: ["term", "state"],
     truths.truth_of: ["promise", "state"],
+    running.run_program: ["program", "name", "numbers", "lists", "choices", "steps"],
+    chains.chain_sum: ["differences", "numbers"],
+    chains.is_ring: ["differences", "numbers"],
+    chains.keeps_all: ["differences", "values"],
+    heights.Heights: ["many"],
+    heights.Heights.tie: ["self", "difference"],
+    heights.Heights.kept: ["self"],
+    heights.Heights.grow: ["self", "many"],
+    heights.Heights.twin: ["self"],
+    known.Known: ["many", "differences", "lists", "cells", "taken", "fresh"],
+    known.Known.new_number: ["self"],
+    known.Known.length: ["self", "number"],
+    known.Known.cell: ["self", "number", "index"],
+    known.Known.twin: ["self"],
+    known.named_indexes: ["known"],
+    known.less: ["f", "g"],
+    known.at_most: ["f", "g"],
+    known.opposite: ["difference"],
+    known.value_at: ["known", "values", "number", "k"],
+    known.content: ["known", "values", "number"],
     errors.BadLine: ["row"],
     errors.BadText: ["row"],
     errors.BadProgram: ["row"],
@@ -53,6 +73,10 @@ class ShapeTest(unittest.TestCase):
             (writer, "write_program"),
             (checks, "check_program"),
             (truths, "State value_of truth_of"),
+            (running, "Run run_program"),
+            (chains, "chain_sum is_ring keeps_all"),
+            (heights, "Heights"),
+            (known, "Known named_indexes less at_most opposite value_at content"),
         ):
             for name in names.split():
                 self.assertEqual(getattr(module, name).__module__, module.__name__)
@@ -80,7 +104,7 @@ class ShapeTest(unittest.TestCase):
             for node in ast.walk(ast.parse(path.read_text())):
                 self.assertNotIsInstance(node, ast.Import, path)
                 if isinstance(node, ast.ImportFrom):
-                    self.assertTrue(node.module.startswith("swornrun."), path)
+                    self.assertTrue(node.module.startswith("swornrun.") or node.module == "heapq", path)
 
 
 if __name__ == "__main__":
