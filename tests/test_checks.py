@@ -2,8 +2,11 @@ import itertools
 import random
 import unittest
 
+import goodness
+from goodmaker import GoodMaker
+from maker import Maker
 from swornrun.checks import check_program
-from swornrun.errors import BadProgram
+from swornrun.errors import BadProgram, BadText
 from swornrun.program import Program
 from swornrun.reader import read_program
 
@@ -480,6 +483,53 @@ class FirstRowTest(CheckTest):
         check_program(made)
         self.assertTrue(made.same(read_program(BASE)))
         self.assertIsNone(check_program(Program(made.procedures)))
+
+
+class RandomTest(CheckTest):
+    ROWS = (
+        "needs x < 1", "gives result < 1", "moves a", "moves is", "keeps k < 1", "skip", "return k", "check k < 1 or k < 1 or k < 1", "if k < 1",
+        "end", "let x = 1", "let n = k", "call k = f(a)", "call k = g(a, x)", "a[0] = 1", "gives old a[0] < x", "while k < m", "falls from k to m",
+        "keeps all k from 0 to m: old a[k] < x", "swap c[0], c[1]",
+    )
+    WORDS = "x k m in a is c f g h result old 99 100 1 len needs gives moves skip".split()
+
+    def changed_rows(self, rows, chance):
+        """Drop, add or double rows, or put a word in the place of another one."""
+        rows = list(rows)
+        for _ in range(chance.choice((1, 1, 2, 3))):
+            at = chance.randrange(len(rows))
+            kind = chance.randrange(5)
+            if kind == 0:
+                del rows[at]
+            elif kind == 1:
+                rows.insert(at, chance.choice(rows))
+            elif kind == 2:
+                rows.insert(at, chance.choice(self.ROWS))
+            else:
+                words = goodness.grammar.words_of(rows[at])
+                words[chance.randrange(len(words))] = chance.choice(self.WORDS)
+                rows[at] = " ".join(words)
+        return rows
+
+    def test_against_the_other_checks(self):
+        chance = random.Random(12)
+        good, free = GoodMaker(chance), Maker(chance)
+        seen = [0, 0]
+        for _ in range(400):
+            _, text = free.program()
+            self.told(text, goodness.first_wrong(text))
+            _, text, _ = good.program()
+            self.assertIsNone(goodness.first_wrong(text))
+            for _ in range(20):
+                changed = "\n".join(self.changed_rows(text.split("\n"), chance))
+                try:
+                    read_program(changed)
+                except BadText:
+                    continue
+                wanted = goodness.first_wrong(changed)
+                self.told(changed, wanted)
+                seen[wanted is None] += 1
+        self.assertGreater(min(seen), 300)
 
 
 if __name__ == "__main__":
