@@ -47,6 +47,27 @@ class Heights:
         other._below = [list(numbers) for numbers in self._below]
         return other
 
+    def mark(self):
+        """Return a mark, to which back leads again, also behind a ring."""
+        return (len(self.differences), list(self._heights))
+
+    def back(self, mark):
+        """Forget the differences that were taken behind a mark."""
+        many, heights = mark
+        while len(self.differences) > many:
+            second = self.differences.pop()[1]
+            self._below[second].pop()
+        # An unknown number that came behind the mark is in no difference any more.
+        self._heights = heights + [0] * (len(self._heights) - len(heights))
+
+    def tie_all(self, differences):
+        """Take more differences, one after the other. Return None if all can be kept, otherwise a ring."""
+        for difference in differences:
+            ring = self.tie(difference)
+            if ring is not None:
+                return ring
+        return None
+
     def _lower(self, number):
         """Lower what a new difference lowers; return None, or a ring if its second part would be lowered, too.
 

@@ -11,7 +11,7 @@ class Known:
         self.cells = list(cells)
         self.taken = list(taken)
         self.fresh = list(fresh)
-        self._found = {(number, index): value for number, index, value in self.cells}
+        self._found = {(number, index): m for m, (number, index, _) in enumerate(self.cells)}
 
     def new_number(self):
         """Return the form of one unknown number more."""
@@ -28,10 +28,13 @@ class Known:
     def cell(self, number, index):
         """Return the value of a cell, a form; the cell is added if it is not there."""
         if (number, index) not in self._found:
-            value = self.new_number()
-            self._found[(number, index)] = value
-            self.cells.append((number, index, value))
-        return self._found[(number, index)]
+            self._found[(number, index)] = len(self.cells)
+            self.cells.append((number, index, self.new_number()))
+        return self.cells[self._found[(number, index)]][2]
+
+    def number_of(self, number, index):
+        """Return the number of a cell that is there, None if it is not there."""
+        return self._found.get((number, index))
 
     def twin(self):
         """Return a copy."""

@@ -52,7 +52,7 @@ class Program:
 
 def statements_of(procedure):
     """Return all statements of a procedure, also those within blocks, by rows."""
-    return sorted(_statements_in(procedure.body), key=lambda statement: statement[1])
+    return sorted(statements_in(procedure.body), key=lambda statement: statement[1])
 
 
 def changed_lists(program, procedure):
@@ -73,14 +73,19 @@ def _attributes(procedure):
     )
 
 
-def _statements_in(block):
+def statements_in(block):
     """Return the statements of a block, each ahead of those within it."""
     found = []
     for statement in block:
         found.append(statement)
         for inner in _blocks_of(statement):
-            found.extend(_statements_in(inner))
+            found.extend(statements_in(inner))
     return found
+
+
+def names_given(block):
+    """Return the names to which the statements of a block, also those within them, give values."""
+    return [statement[2] for statement in statements_in(block) if statement[0] in ("set", "choose", "call")]
 
 
 def _blocks_of(statement):
@@ -114,7 +119,7 @@ def _all_changed(program):
 def _changed_by(program, procedure, block, changed):
     """Return what a block of a procedure changes if the called procedures change what is told."""
     names = []
-    for statement in _statements_in(block):
+    for statement in statements_in(block):
         if statement[0] in ("put", "swap"):
             names.append(statement[2])
         elif statement[0] == "call":
