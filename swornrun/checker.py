@@ -1,8 +1,7 @@
 """The checker of closings and papers. It searches nothing: it goes along the tokens."""
 
 from swornrun.chains import is_ring
-from swornrun.checks import check_program
-from swornrun.errors import BadProgram
+from swornrun.checks import is_good
 from swornrun.known import named_indexes
 from swornrun.splits import split_ways
 from swornrun.walks import Walk
@@ -17,11 +16,12 @@ class Reading:
         self.at = 0
 
     def next_token(self):
-        """Return the next token, () if there is none."""
+        """Return the next token, () if there is none that is a tuple."""
         if self.at == len(self.tokens):
             return ()
         self.at += 1
-        return self.tokens[self.at - 1]
+        token = self.tokens[self.at - 1]
+        return token if isinstance(token, tuple) else ()
 
     def is_done(self):
         """Tell whether all tokens were read."""
@@ -36,7 +36,7 @@ def check_closing(known, tokens):
 
 def check_paper(program, name, paper):
     """Tell whether a paper is accepted for a procedure of a program."""
-    if not _is_good(program) or program.called(name) is None:
+    if not is_good(program) or program.called(name) is None:
         return False
     if paper.text != write_program(program) or paper.name != name:
         return False
@@ -44,18 +44,9 @@ def check_paper(program, name, paper):
     return _read_walk(Walk(program, name), reading) and reading.is_done()
 
 
-def _is_good(program):
-    """Tell whether a program is good."""
-    try:
-        check_program(program)
-    except BadProgram:
-        return False
-    return True
-
-
 def _is_dead(differences, token):
     """Tell whether a token is ("dead", ring) with a ring of the differences."""
-    if len(token) != 2 or token[0] != "dead" or not isinstance(token[1], (tuple, list)):
+    if len(token) != 2 or token[0] != "dead" or not isinstance(token[1], tuple):
         return False
     return all([isinstance(number, int) for number in token[1]]) and is_ring(differences, token[1])
 
@@ -88,7 +79,7 @@ def _read_split(known, indexes, reading, pending):
     ways = split_ways(known, indexes, token)
     if ways is None:
         return False
-    pending.extend([(known, way) for way in reversed(ways)])
+    pending.extend([(known, way) for way in ways[::-1]])
     return True
 
 

@@ -34,6 +34,15 @@ def check_program(program):
         raise BadProgram(min(wrong))
 
 
+def is_good(program):
+    """Tell whether a program is good."""
+    try:
+        check_program(program)
+    except BadProgram:
+        return False
+    return True
+
+
 def _wrong_in_whole(program):
     """Return what is wrong with the program as a whole."""
     wrong = [MOST_ROWS + 1] if rows_of_program(program) > MOST_ROWS else []

@@ -11,8 +11,8 @@ def close(known):
     refutation = search.refutation()
     board = Board(search.board, known, search.indexes)
     if refutation is not None:
-        return ("dead", tuple(proof_tokens(board, known, refutation[0])))
-    met = path_known(board, known, [(frame.split, frame.way) for frame in search.frames])
+        return ("dead", tuple(proof_tokens(board, known, refutation.proof)))
+    met = path_known(board, known, [(branching.split, branching.gone) for branching in search.path])
     heights = Heights(met.many)
     heights.tie_all(met.differences)
     return ("met", tuple(heights.kept()), met)

@@ -36,7 +36,8 @@ class Exploration:
     def explore(self):
         """Go all ways, up to a place that can be met."""
         while self.pending and self.failed is None:
-            self.go(*self.pending.pop())
+            walk, heights, way = self.pending.pop()
+            self.go(walk, heights, way)
 
     def go(self, walk, heights, way):
         """Go a way of a question."""
@@ -56,8 +57,7 @@ class Exploration:
         """Go on with a walk to the next question, or to the end of the way."""
         word = walk.advance()
         if word == "ask":
-            many = len(walk.ways())
-            self.pending.extend([(walk, heights, way) for way in reversed(range(many))])
+            self.pending.extend([(walk, heights, way) for way in reversed(range(len(walk.ways())))])
         elif word == "over":
             self.tokens.append(("over",))
         else:

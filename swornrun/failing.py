@@ -3,8 +3,7 @@
 The methods that go through a part of the procedure tell whether the way goes on behind it.
 """
 
-from swornrun.checks import check_program
-from swornrun.errors import BadProgram
+from swornrun.checks import is_good
 from swornrun.program import changed_in, changed_lists, names_given
 from swornrun.truths import State, compares, truth_of, value_of
 
@@ -17,7 +16,7 @@ class Trial:
         self.program = program
         self.procedure = procedure
         self.goal = goal
-        self.answers = answers
+        self.told = answers
         self.at = 0
         self.verdict = False
         # Lists are never changed, only exchanged for others: so the old ones stay as they are.
@@ -27,7 +26,7 @@ class Trial:
     def meet(self, goal, holds):
         """Meet a goal: the way ends if it does not hold."""
         if not holds:
-            self.verdict = goal == self.goal and self.at == len(self.answers)
+            self.verdict = goal == self.goal and self.at == len(self.told)
         return holds
 
     def meet_cells(self, row, terms):
@@ -46,10 +45,10 @@ class Trial:
 
     def next_answer(self, kind):
         """Return the next answer if it is of the kind that is due, otherwise None."""
-        if self.at == len(self.answers) or self.answers[self.at][0] != kind:
+        if self.at == len(self.told) or self.told[self.at][0] != kind:
             return None
         self.at += 1
-        return self.answers[self.at - 1]
+        return self.told[self.at - 1]
 
     def put_lists(self, state, names, lists):
         """Give names other lists; tell whether they are as many and as long as those before."""
@@ -91,12 +90,8 @@ class Trial:
 
 def judge_failing(program, name, goal, failing):
     """Tell whether a failing is true for a goal of a procedure."""
-    try:
-        check_program(program)
-    except BadProgram:
-        return False
     procedure = program.called(name)
-    if procedure is None:
+    if procedure is None or not is_good(program):
         return False
     if len(failing[0]) != len(procedure.number_names) or len(failing[1]) != len(procedure.list_names):
         return False

@@ -59,7 +59,7 @@ def read_paper(text):
 def _write_token(token):
     """Return the row of a token."""
     numbers = token[1] if token[0] == "dead" else token[1:]
-    return " ".join([token[0], *[str(number) for number in numbers]])
+    return " ".join([token[0]] + [str(number) for number in numbers])
 
 
 def _read_many(row):

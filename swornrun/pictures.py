@@ -14,7 +14,7 @@ class Picture:
 
     def __init__(self, known, there, names, values):
         self.known = known
-        self.values = values
+        self.worths = values
         self.names = names
         found = {}
         for form, number in names.items():
@@ -30,11 +30,11 @@ class Picture:
 
     def worth(self, form):
         """Return the value of a form."""
-        return worth_of(form, self.values)
+        return worth_of(form, self.worths)
 
     def place(self, form):
         """Return the place of a named index among the spots."""
-        return self.places[worth_of(form, self.values)]
+        return self.places[worth_of(form, self.worths)]
 
     def draw(self, number):
         """Draw a list, and those that it is written upon."""
@@ -47,13 +47,13 @@ class Picture:
         for written in reversed(chain):
             self._draw_written(written)
 
-    def row(self, number):
+    def drawn(self, number):
         """Return the values of a list at the spots."""
         if number not in self.rows:
             self.draw(number)
         return self.rows[number]
 
-    def told(self, number, place):
+    def sources_at(self, number, place):
         """Return the numbers of the named indexes at a place by which something is said of a list."""
         if number not in self.rows:
             self.draw(number)
@@ -61,8 +61,8 @@ class Picture:
 
     def within(self, number, lo, hi):
         """Return the places in the range of a list."""
-        first = max(worth_of(lo, self.values), 0)
-        end = min(worth_of(hi, self.values), worth_of(self.known.length(number), self.values))
+        first = max(worth_of(lo, self.worths), 0)
+        end = min(worth_of(hi, self.worths), worth_of(self.known.length(number), self.worths))
         return [place for place, spot in enumerate(self.spots) if first <= spot < end]
 
     def _draw_new(self, number):
@@ -74,11 +74,7 @@ class Picture:
             place = self.place(index)
             row[place] = self.worth(value)
             sources[place].append(self.names[index])
-        last = 0
-        for place, value in enumerate(row):
-            last = last if value is None else value
-            row[place] = last
-        self.rows[number] = row
+        self.rows[number] = _gone_on(row)
         self.sources[number] = sources
 
     def _draw_written(self, number):
@@ -98,6 +94,16 @@ class Picture:
         self.sources[number] = sources
 
 
+def _gone_on(row):
+    """Return a row in which each value goes on up to the next one, and what is ahead of the first one is 0."""
+    last = 0
+    made = []
+    for value in row:
+        last = last if value is None else value
+        made.append(last)
+    return made
+
+
 def broken_splits(picture):
     """Return (weak, split) for splits none of whose ways a picture keeps; none if it fits the known.
 
@@ -115,7 +121,7 @@ def broken_splits(picture):
 def _broken_cells(picture, number):
     """Return the splits of cells of a list that have not the values that they must have."""
     known = picture.known
-    row = picture.row(number)
+    row = picture.drawn(number)
     found = []
     if known.lists[number][0] == "written":
         for m in picture.cells[number]:
@@ -133,7 +139,7 @@ def _broken_cells(picture, number):
 
 def _broken_either(picture, q, promise):
     """Return the split of an either that is not kept."""
-    worth = [0, *picture.values]
+    worth = [0, *picture.worths]
     for alternative in promise[1]:
         if all([worth[u] - worth[v] <= c for u, v, c in alternative]):
             return []
@@ -150,12 +156,12 @@ def _chosen_indexes(picture, place, told):
 def _broken_all(picture, q, promise):
     """Return the splits of an all that is not kept."""
     _, number, lo, hi, sign, form = promise
-    row = picture.row(number)
+    row = picture.drawn(number)
     worth = picture.worth(form)
     found = []
     for place in picture.within(number, lo, hi):
         if not compares(sign, row[place], worth):
-            for weak, s in _chosen_indexes(picture, place, picture.told(number, place)):
+            for weak, s in _chosen_indexes(picture, place, picture.sources_at(number, place)):
                 found.append((weak, ("all", q, s)))
     return found
 
@@ -163,12 +169,12 @@ def _broken_all(picture, q, promise):
 def _broken_match(picture, q, promise):
     """Return the splits of a match that is not kept."""
     _, number, lo, hi, sign, other, plus = promise
-    row, others = picture.row(number), picture.row(other)
+    row, others = picture.drawn(number), picture.drawn(other)
     many = picture.worth(picture.known.length(other))
     found = []
     for place in picture.within(number, lo, hi):
         if picture.spots[place] < many and not compares(sign, row[place], others[place] + plus):
-            mine, its = picture.told(number, place), picture.told(other, place)
+            mine, its = picture.sources_at(number, place), picture.sources_at(other, place)
             both = [s for s in mine if s in its]
             weak = 0 if both else 1 if mine or its else 2
             for s in both or mine or its or picture.named[place][:1]:
@@ -179,7 +185,7 @@ def _broken_match(picture, q, promise):
 def _broken_sorted(picture, q, promise):
     """Return the splits of a sorted that is not kept."""
     _, number, lo, hi = promise
-    row = picture.row(number)
+    row = picture.drawn(number)
     places = picture.within(number, lo, hi)
     found = []
     for at, place in enumerate(places):
@@ -192,7 +198,7 @@ def _broken_sorted(picture, q, promise):
 def _broken_below(picture, q, promise):
     """Return the splits of a below that is not kept."""
     _, number, lo, hi, other, low, high = promise
-    row, others = picture.row(number), picture.row(other)
+    row, others = picture.drawn(number), picture.drawn(other)
     behind = picture.within(other, low, high)
     found = []
     for place in picture.within(number, lo, hi):
@@ -204,8 +210,8 @@ def _broken_below(picture, q, promise):
 
 def _two_indexes(picture, head, spot, other):
     """Return the splits at the indexes to ask for at two places, (list, place) each."""
-    firsts = _chosen_indexes(picture, spot[1], picture.told(spot[0], spot[1]))
-    seconds = _chosen_indexes(picture, other[1], picture.told(other[0], other[1]))
+    firsts = _chosen_indexes(picture, spot[1], picture.sources_at(spot[0], spot[1]))
+    seconds = _chosen_indexes(picture, other[1], picture.sources_at(other[0], other[1]))
     return [(one + two, (*head, s, t)) for one, s in firsts for two, t in seconds]
 
 

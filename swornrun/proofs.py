@@ -19,7 +19,7 @@ class Board:
         number, index = self.owners[unknown]
         return known.cell(number, index)[0]
 
-    def numbers(self, known, differences):
+    def numbers_in(self, known, differences):
         """Return the numbers that differences of the board have in a known."""
         places = {difference: number for number, difference in enumerate(known.differences)}
         return tuple([
@@ -30,11 +30,12 @@ class Board:
         """Return the split of a known that is one of the board, and the numbers that its ways have there."""
         if split[0] not in ("pair", "write"):
             return split, None
-        cells = [known.number_of(*self.board.cells[m][:2]) for m in split[1:]]
-        # Of a pair that was added in the other order the first two ways are exchanged.
+        keys = [self.board.cells[m] for m in split[1:]]
+        cells = [known.number_of(number, index) for number, index, _ in keys]
         if cells == sorted(cells):
             return (split[0], *cells), None
-        return (split[0], *sorted(cells)), (1, 0, 2)
+        # The first two ways of a pair are exchanged if its cells were added in the other order.
+        return (split[0], cells[1], cells[0]), (1, 0, 2)
 
 
 def path_known(board, known, steps):
@@ -55,13 +56,14 @@ def proof_tokens(board, known, proof):
         here = above.twin()
         here.differences.extend(way)
         if part[0] == "ring":
-            tokens.append(("dead", board.numbers(here, part[1])))
+            tokens.append(("dead", board.numbers_in(here, part[1])))
             continue
         tokens.append(("on",))
         split, order = board.split_in(here, part[1])
         tokens.append(split)
         ways = split_ways(here, board.indexes, split)
         parts = part[2] if order is None else [part[2][way] for way in order]
-        pending.extend(reversed([(here, way, inner) for way, inner in zip(ways, parts)]))
+        behind = [(here, way, inner) for way, inner in zip(ways, parts)]
+        pending.extend(behind[::-1])
     # Ahead of the first split there is no way that goes on.
     return tokens if tokens[0] != ("on",) else tokens[1:]

@@ -23,11 +23,11 @@ def find_start(program, name):
         # Taking a need is a question with one way.
         ring = heights.tie_all(walk.ways()[0][1])
         if ring is not None:
-            return ("none", (*tokens, ("dead", ring)))
+            return ("none", tuple(tokens + [("dead", ring)]))
         tokens.append(("on",))
         walk.take(0)
     answer = close(walk.known.twin())
     if answer[0] == "dead":
-        return ("none", (*tokens, *answer[1]))
+        return ("none", tuple(tokens) + answer[1])
     numbers, lists = plain_start(walk, answer[1], answer[2])
     return ("start", numbers, lists)

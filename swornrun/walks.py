@@ -1,8 +1,9 @@
 """The walk through the tree of a procedure."""
 
 from swornrun.errors import NoProcedure
+from swornrun.jobs import block_job, first_jobs
 from swornrun.known import Known, at_most
-from swornrun.steps import block_job, do_job, first_jobs, push_jobs
+from swornrun.steps import do_job, push_jobs
 from swornrun.views import View
 
 
