@@ -137,6 +137,11 @@ def ring(differences, numbers):
 
 def accepts(known, tokens):
     """Whether tokens are a closing of a known."""
+    return behind_closing(known, tokens) == []
+
+
+def behind_closing(known, tokens):
+    """The tokens behind a closing of a known with which they begin, False if they do not."""
     left = list(tokens)
     first = Told(known)
     indexes = named(first)
@@ -160,7 +165,7 @@ def accepts(known, tokens):
                 continue
         if len(token) != 2 or token[0] != "dead" or not ring(here.differences, token[1]):
             return False
-    return not left
+    return left
 
 
 def worth(form, values):
