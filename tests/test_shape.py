@@ -3,7 +3,8 @@ import inspect
 import pathlib
 import unittest
 
-from swornrun import chains, checks, errors, heights, known, program, reader, running, terms, truths, words, writer
+from swornrun import chains, checker, checks, closing, decide, errors, failing, heights, known, papers, program, reader, running
+from swornrun import splits, starts, terms, truths, walks, words, writer
 
 FOLDER = pathlib.Path(words.__file__).parent
 FILES = sorted(FOLDER.glob("*.py"))
@@ -51,6 +52,25 @@ INTERFACE = {
     known.opposite: ["difference"],
     known.value_at: ["known", "values", "number", "k"],
     known.content: ["known", "values", "number"],
+    splits.split_ways: ["known", "indexes", "split"],
+    closing.close: ["known"],
+    walks.Walk: ["program", "name"],
+    walks.Walk.advance: ["self"],
+    walks.Walk.ways: ["self"],
+    walks.Walk.take: ["self", "number"],
+    walks.Walk.twin: ["self"],
+    walks.Walk.answers: ["self"],
+    walks.Walk.start: ["self"],
+    papers.Paper: ["text", "name", "tokens"],
+    papers.Paper.same: ["self", "other"],
+    papers.write_paper: ["paper"],
+    papers.read_paper: ["text"],
+    checker.check_closing: ["known", "tokens"],
+    checker.check_paper: ["program", "name", "paper"],
+    decide.decide: ["program", "name"],
+    decide.decide_all: ["program"],
+    failing.judge_failing: ["program", "name", "goal", "failing"],
+    starts.find_start: ["program", "name"],
     errors.BadLine: ["row"],
     errors.BadText: ["row"],
     errors.BadProgram: ["row"],
@@ -77,11 +97,36 @@ class ShapeTest(unittest.TestCase):
             (chains, "chain_sum is_ring keeps_all"),
             (heights, "Heights"),
             (known, "Known named_indexes less at_most opposite value_at content"),
+            (splits, "split_ways"),
+            (closing, "close"),
+            (walks, "Walk"),
+            (papers, "Paper write_paper read_paper"),
+            (checker, "check_closing check_paper"),
+            (decide, "Verdict decide decide_all"),
+            (failing, "judge_failing"),
+            (starts, "find_start"),
         ):
             for name in names.split():
                 self.assertEqual(getattr(module, name).__module__, module.__name__)
         for name in ("number_names", "list_names"):
             self.assertIsInstance(vars(program.Procedure)[name], property)
+
+    def test_methods_stand_in_their_classes(self):
+        for thing in INTERFACE:
+            if inspect.isfunction(thing) and "." in thing.__qualname__:
+                name, method = thing.__qualname__.split(".")
+                self.assertIn(method, vars(getattr(inspect.getmodule(thing), name)))
+
+    def test_checker_searches_nothing(self):
+        """What the checker rests on does not lead to the search, nor to heights."""
+        seen, pending = set(), ["checker"]
+        while pending:
+            name = pending.pop()
+            if name not in seen:
+                seen.add(name)
+                text = (FOLDER / f"{name}.py").read_text()
+                pending += [row.split()[1].split(".")[1] for row in text.split("\n") if row.startswith("from swornrun.")]
+        self.assertEqual(seen & {"search", "closing", "heights", "pictures", "proofs", "decide"}, set())
 
     def test_only_plain_files(self):
         for path in FOLDER.iterdir():

@@ -1,6 +1,6 @@
-"""What a failing must be, told once more: the procedure becomes a line of events, and the judge reads along.
+"""What a failing must be, told once more: a judge that goes through a procedure until an exception ends the way.
 
-Nothing here calls the package. An event is ("goal", goal, holds) or ("answer", is it allowed).
+Nothing here calls the package.
 """
 
 import operator
@@ -62,6 +62,7 @@ class Scene:
 class Judge:
     def __init__(self, program, procedure, goal, answers):
         self.program, self.procedure, self.goal, self.answers = program, procedure, goal, list(answers)
+        self.choices = []
 
     def meet(self, goal, holds):
         if not holds:
@@ -124,6 +125,7 @@ class Judge:
             low, high = scene.range(statement[3:])
             self.meet((row, "choose", 0), low < high)
             scene.numbers[statement[2]], = self.next("choose", 2)
+            self.choices.append(scene.numbers[statement[2]] - low)
             self.demand(low <= scene.numbers[statement[2]] < high)
         elif kind == "check":
             self.meet((row, "check", 0), self.holds(scene, row, statement[2]))
@@ -222,13 +224,19 @@ def touched(program, statements):
 
 def judge(program, name, goal, failing):
     """Whether a failing is true for a goal of a good program."""
+    return judged(program, name, goal, failing)[0]
+
+
+def judged(program, name, goal, failing):
+    """Whether a failing is true for a goal of a good program, and the choices that give its answers."""
     procedure = by_name(program, name)
     numbers = [one for one, is_list in procedure.parameters if not is_list]
     lists = [one for one, is_list in procedure.parameters if is_list]
     if (len(numbers), len(lists)) != (len(failing[0]), len(failing[1])):
-        return False
+        return False, []
     held = {one: tuple(cells) for one, cells in zip(lists, failing[1])}
+    told = Judge(program, procedure, goal, failing[2])
     try:
-        Judge(program, procedure, goal, failing[2]).begin(Scene(zip(numbers, failing[0]), held, held))
+        told.begin(Scene(zip(numbers, failing[0]), held, held))
     except Stop as stop:
-        return stop.args[0]
+        return stop.args[0], told.choices
