@@ -1,8 +1,8 @@
 """The search for a closing of a known, or for values that fit it.
 
-Splits are gone through depth first, and always one that the values that are kept so far do not keep. What does not
-hang on a split is refuted without it. A refutation that was found once serves again, if it is small beside the
-search: tokens are no shorter for that a refutation stands in them twice.
+Splits are gone through depth first; the next one is always one that the values that are kept so far do not keep.
+What does not hang on a split is refuted without it. A refutation that was found once serves again, but only if it is
+small beside the search: in a closing it is written out each time.
 """
 
 from swornrun.heights import Heights

@@ -195,6 +195,47 @@ class CopyTest(HeightsCase):
                 self.assertEqual(heights.differences, differences)
                 self.assert_kept(heights, 3, differences)
 
+    def test_marks(self):
+        """Back at a mark, all is as it was there: also behind a ring, and with unknowns that came later."""
+        chance = random.Random(67)
+        for _ in range(60):
+            heights, many, told, marks = Heights(3), 3, [], []
+            for _ in range(40):
+                step = chance.randrange(5)
+                if step == 0:
+                    marks.append((heights.mark(), list(told)))
+                elif step == 1 and marks:
+                    mark, told = marks[-1][0], list(marks[-1][1])
+                    heights.back(mark)
+                    if chance.random() < 0.5:
+                        marks.pop()
+                elif step == 2 and many < 6:
+                    many += 1
+                    heights.grow(many)
+                else:
+                    difference = (chance.randrange(many + 1), chance.randrange(many + 1), chance.randrange(-2, 6))
+                    mark = heights.mark()
+                    ring = heights.tie(difference)
+                    self.assertEqual(ring is None, can_be_kept(many, told + [difference]))
+                    if ring is None:
+                        told.append(difference)
+                    else:
+                        heights.back(mark)
+                self.assertEqual(heights.differences, told)
+                self.assert_kept(heights, many, told)
+                self.assertEqual(heights.kept(), self.kept_anew(many, told))
+
+    def kept_anew(self, many, differences):
+        heights = Heights(many)
+        self.assertIsNone(heights.tie_all(differences))
+        return heights.kept()
+
+    def test_tie_all(self):
+        heights = Heights(2)
+        self.assertIsNone(heights.tie_all([]))
+        self.assert_ring(heights.tie_all([(1, 2, -3), (2, 1, 2), (1, 1, -1)]), [(1, 2, -3), (2, 1, 2)])
+        self.assertEqual(len(heights.differences), 2)
+
     def test_grow(self):
         heights = Heights(1)
         heights.tie((1, 0, -4))
