@@ -62,8 +62,8 @@ def proof_tokens(board, known, proof):
         split, order = board.split_in(here, part[1])
         tokens.append(split)
         ways = split_ways(here, board.indexes, split)
-        parts = part[2] if order is None else [part[2][way] for way in order]
-        behind = [(here, way, inner) for way, inner in zip(ways, parts)]
+        parts = part[2] if order is None else [part[2][number] for number in order]
+        behind = [(here, following, inner) for following, inner in zip(ways, parts)]
         pending.extend(behind[::-1])
     # Ahead of the first split there is no way that goes on.
     return tokens if tokens[0] != ("on",) else tokens[1:]

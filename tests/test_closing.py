@@ -174,6 +174,12 @@ class RandomTest(ClosingCase):
     def test_far(self):
         self.go(5, 300, many=7, far=FAR, differences=12)
 
+    def test_much_larger(self):
+        """So large that refutations that were found once serve again."""
+        for number in range(12):
+            drawn = Drawn(random.Random(number + 40), many=16, size=20, lists=9, cells=20, promises=25, differences=10)
+            self.assertEqual(self.assert_answer(drawn.known()), "met")
+
     def test_asked_again(self):
         for number in range(60):
             drawn = Drawn(random.Random(number + 777))
@@ -187,8 +193,8 @@ class RandomTest(ClosingCase):
 
 class HardTest(ClosingCase):
     def test_few_numbers_for_many_cells(self):
-        """Four cells of a list, no two equal, with three values: there is no place for the fourth one."""
-        for many, free in ((4, 3), (4, 4)):
+        """Cells of a list, no two equal, with fewer values: there is no place for the last one."""
+        for many, free in ((4, 3), (4, 4), (6, 5), (6, 6)):
             cells = [(0, (0, k), (2 + k, 0)) for k in range(many)]
             eithers = [("either", (((2 + k, 2 + m, -1),), ((2 + m, 2 + k, -1),))) for k in range(many) for m in range(k)]
             bounds = [("all", 0, (0, 0), (0, many), ">=", (0, 0)), ("all", 0, (0, 0), (0, many), "<", (0, free))]
